@@ -1,0 +1,1 @@
+"""Anyscribe: texts copied by scribes who may do anything of told kinds."""
