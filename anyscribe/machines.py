@@ -5,15 +5,18 @@ from anyscribe.errors import TooMany
 MOST_STANDS = 200
 
 
-def explored(start, follow):
+def explored(start, follow, most=None):
     """The things come to from the start, in the order in which they are, and the rows of their numbers.
 
-    The function follow tells of a thing to what each letter leads, in the order of the letters.
+    The function follow tells of a thing to what each letter leads, in the order of the letters. TooMany(200) if more
+    things come than the most, where that is told.
     """
     things = [start]
     numbers = {start: 0}
     rows = []
     while len(rows) < len(things):
+        if most is not None and len(things) > most:
+            raise TooMany(MOST_STANDS)
         reached = follow(things[len(rows)])
         row = []
         for thing in reached:

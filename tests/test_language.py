@@ -31,6 +31,9 @@ INTERFACE = {
     "texts": "deeds done copies",
     "readers": """is_reader verdict are_alike is_endless stands_come_to least both either less parting least_text count
         listed""",
+    "books": "reader_of",
+    "printing": "printed",
+    "reading": "check",
 }
 
 
@@ -116,8 +119,10 @@ class Language(unittest.TestCase):
                     self.assertFalse(fixed & {arg.arg for arg in node.args.args}, f"{name}: {node.name}")
 
     def test_nothing_outside_of_the_language(self):
+        # A method may be called in other files than the one that defines it.
+        own = {each.name for tree in self.trees.values() for node in ast.walk(tree) if isinstance(node, ast.ClassDef)
+               for each in node.body if isinstance(each, ast.FunctionDef)}
         for name, tree in self.trees.items():
-            own = set(names_bound(tree))
             for node in ast.walk(tree):
                 self.assertNotIsInstance(node, STATEMENTS, name)
                 if isinstance(node, ast.Constant):

@@ -4,7 +4,7 @@ import copy
 import unittest
 from itertools import product
 
-from anyscribe import readers, texts
+from anyscribe import books, printing, reading, readers, texts
 from anyscribe.errors import (BadDeed, BadKinds, BadLetters, BadNumber, BadReader, BadText, ScribeError, TooLong,
                               TooMany, Unlike)
 from tests.support import A_MANY_B, A_ONE_B, ANY, ascending
@@ -145,7 +145,9 @@ class Values(unittest.TestCase):
     def test_equal_calls_have_equal_answers(self):
         calls = ((texts.deeds, ("ab", KINDS[1], "aba")), (texts.copies, ("ab", KINDS[1], "aba")),
                  (readers.least, (A_ONE_B,)), (readers.both, (A_MANY_B, A_ONE_B)),
-                 (readers.parting, (A_MANY_B, A_ONE_B)), (readers.listed, (ALL_YES, 3)))
+                 (readers.parting, (A_MANY_B, A_ONE_B)), (readers.listed, (ALL_YES, 3)),
+                 (books.reader_of, ("ab", "(a | ab)* - b")), (printing.printed, ("letters ab; book B = (a)(b);",)),
+                 (reading.check, ("letters ab; book B = (a)(b);",)))
         for function, values in calls:
             self.assertEqual(function(*values), function(*values))
 
