@@ -6,6 +6,9 @@ A lot of stands is an integer with a bit for each stand: those to which a text l
 from anyscribe.machines import explored, shrunk
 
 MOST_LOTS = 20000
+# How many stands beside one another are followed at once, and the bits of them all.
+PART = 8
+FULL_PART = 255
 
 
 def lot_where(yes):
@@ -13,24 +16,56 @@ def lot_where(yes):
     return sum([1 << stand for stand, said in enumerate(yes) if said])
 
 
-def lots_behind(steps, lot):
-    """For each letter the lot to which it leads from the stands of the lot; steps tells this of each stand."""
-    behind = [0 for _ in steps[0]]
+def stands_of(lot):
+    """The list of the stands of a lot."""
+    stands = []
     rest = lot
     while rest > 0:
         stand = rest.bit_length() - 1
         rest -= 1 << stand
-        for at, to in enumerate(steps[stand]):
-            behind[at] |= to
-    return behind
+        stands.append(stand)
+    return stands
+
+
+class Follower:
+    """Tells to which lot the stands of a lot lead; rows tells the lot to which each stand leads."""
+
+    def __init__(self, rows):
+        self.rows = rows
+        self.kept = {}
+
+    def behind_part(self, first, part):
+        """The lot behind the stands that the bits of the part mean, counted from the first one on."""
+        found = 0
+        for at in range(PART):
+            if part >> at & 1 == 1:
+                found |= self.rows[first + at]
+        return found
+
+    def behind(self, lot):
+        """The lot to which the stands of the lot lead."""
+        found = 0
+        first = 0
+        rest = lot
+        while rest > 0:
+            # The same few stands beside one another come again and again, so that what is behind them is kept.
+            part = rest & FULL_PART
+            if (first, part) not in self.kept:
+                self.kept[(first, part)] = self.behind_part(first, part)
+            found |= self.kept[(first, part)]
+            first += PART
+            rest >>= PART
+        return found
 
 
 def least_by_lots(letters, steps, start, yes):
     """The least reader that says yes where a stand of the lot yes can be come to from the lot start.
 
-    TooMany(200) for more stands, or for more than 20000 lots on the way.
+    For each stand and each letter steps tells the lot to which it leads. TooMany(200) for more stands, or for more than
+    20000 lots on the way.
     """
-    lots, rows = explored(start, lambda lot: lots_behind(steps, lot), MOST_LOTS)
+    followers = [Follower(rows) for rows in zip(*steps)]
+    lots, rows = explored(start, lambda lot: [follower.behind(lot) for follower in followers], MOST_LOTS)
     return shrunk(letters, rows, [(lot & yes) > 0 for lot in lots])
 
 

@@ -43,13 +43,18 @@ def check_readers(one, other):
         raise Unlike()
 
 
+def stand_from(reader, stand, text):
+    """The stand to which a text of the reader's letters, of any length, leads from the stand."""
+    letters, rows, _ = reader
+    now = stand
+    for letter in text:
+        now = rows[now][letters.index(letter)]
+    return now
+
+
 def stand_behind(reader, text):
     """The stand to which a text of the reader's letters, of any length, leads."""
-    letters, rows, _ = reader
-    stand = 0
-    for letter in text:
-        stand = rows[stand][letters.index(letter)]
-    return stand
+    return stand_from(reader, 0, text)
 
 
 def verdict(reader, text):

@@ -36,8 +36,11 @@ def is_deed_on(kinds, text, value):
     """Whether the value is one of the deeds on a text of any length."""
     if not isinstance(value, tuple) or len(value) != 3:
         return False
+    place, left, right = value
     # Python holds True for 1, so that the place is asked for what it is.
-    return is_integer(value[0]) and value in deeds_on(kinds, text)
+    if not is_integer(place) or not 0 <= place <= len(text) or (left, right) not in kinds:
+        return False
+    return text[place:place + len(left)] == left
 
 
 def check_deeds_of(letters, kinds, text):

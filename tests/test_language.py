@@ -33,6 +33,9 @@ INTERFACE = {
         listed""",
     "books": "reader_of",
     "printing": "printed",
+    "copying": "comes comes_in_order comes_by is_kept are_orders_alike",
+    "ways": "fewest way origin leads",
+    "standing": "bears turned borne paper judged",
     "reading": "check",
 }
 

@@ -4,9 +4,9 @@ import copy
 import unittest
 from itertools import product
 
-from anyscribe import books, printing, reading, readers, texts
-from anyscribe.errors import (BadDeed, BadKinds, BadLetters, BadNumber, BadReader, BadText, ScribeError, TooLong,
-                              TooMany, Unlike)
+from anyscribe import books, copying, printing, reading, readers, standing, texts, ways
+from anyscribe.errors import (BadDeed, BadKinds, BadLetters, BadLots, BadNumber, BadReader, BadText, NoWay, ScribeError,
+                              TooLong, TooMany, Unlike)
 from tests.support import A_MANY_B, A_ONE_B, ANY, ascending
 
 ALL_YES = ("abcd", ((0, 0, 0, 0),), (True,))
@@ -26,6 +26,11 @@ READER = (BadReader, A_MANY_B, (("ab", ((0, 0),), (True,)),),
            ("ba", ((0, 0),), (True,)), ("ab", (), ()), ("ab", ((0, 1),), (True,))))
 OTHER = (BadReader, A_ONE_B, READER[2], READER[3])
 NUMBER = (BadNumber, 3, (0, 1, 2, 40), (True, False, None, -1, 41, "3", (3,), [3]))
+LOTS = (BadLots, (KINDS[1], ()), ((), ((), ()), KINDS[1:2]),
+        ([], [()], (None,), ((), [("a", "")]), ((), (("c", ""),)), ((),) * 5, KINDS[1]))
+SMALL = (BadNumber, 3, (0, 1, 2, 4), (True, False, None, -1, 5, "1", (1,), [1]))
+# Any value is right here.
+ROW = (None, ((0, "a", ""),), ANY, ())
 
 FUNCTIONS = (
     (texts.deeds, (LETTERS, KINDS, TEXT)),
@@ -43,7 +48,23 @@ FUNCTIONS = (
     (readers.count, (READER, NUMBER)),
     (readers.listed, (READER, NUMBER)),
     (readers.is_endless, (READER,)),
+    (copying.comes, (READER, KINDS)),
+    (copying.comes_in_order, (READER, LOTS)),
+    (copying.comes_by, (READER, KINDS, SMALL)),
+    (copying.is_kept, (READER, KINDS)),
+    (copying.are_orders_alike, (READER, KINDS, KINDS)),
+    (ways.fewest, (LETTERS, KINDS, TEXT, TEXT)),
+    (ways.way, (LETTERS, KINDS, TEXT, TEXT)),
+    (ways.origin, (READER, KINDS, TEXT)),
+    (ways.leads, (LETTERS, KINDS, TEXT, ROW, TEXT)),
+    (standing.bears, (READER, KINDS)),
+    (standing.turned, (READER, KINDS)),
+    (standing.borne, (READER,)),
+    (standing.paper, (READER, KINDS)),
+    (standing.judged, (READER, KINDS, ROW)),
 )
+# What functions may raise of right values as they are put together here.
+MAY_RAISE = {texts.done: BadDeed, ways.fewest: TooLong, ways.way: (TooLong, NoWay), ways.origin: (TooLong, NoWay)}
 
 
 def is_same(one, other):
@@ -72,7 +93,7 @@ class WrongValues(unittest.TestCase):
     def test_each_parameter_takes_any_value(self):
         for function, sorts in FUNCTIONS:
             for at, sort in enumerate(sorts):
-                for value in wrong_values(sort):
+                for value in wrong_values(sort) if sort[0] else ():
                     values = [each[1] for each in sorts]
                     values[at] = value
                     with self.subTest(function=function.__name__, at=at):
@@ -87,19 +108,19 @@ class WrongValues(unittest.TestCase):
                     if sort is LETTERS and value == "a":
                         continue
                     with self.subTest(function=function.__name__, at=at, value=value):
-                        if sort is KINDS and function is texts.done and value == ():
-                            self.assert_raises(BadDeed, function, values)
-                        elif sort is TEXT and function is texts.done and not value.startswith("a"):
-                            self.assert_raises(BadDeed, function, values)
-                        else:
+                        before = copy.deepcopy(values)
+                        try:
                             function(*values)
+                        except MAY_RAISE.get(function, ()):
+                            pass
+                        self.assertEqual(values, before)
 
     def test_first_wrong_one_raises(self):
         # Several wrong values at once: of each sort one that is far off, one that is near, one that has no hash.
         for function, sorts in FUNCTIONS:
-            choices = [(sort[1], None, {"a": [1]}, sort[3][0], sort[3][-1]) for sort in sorts]
+            choices = [(sort[1], None, {"a": [1]}) + (sort[3][:1] + sort[3][-1:]) for sort in sorts]
             for row in product(*[range(len(choice)) for choice in choices]):
-                wrong = [at for at, which in enumerate(row) if which > 0]
+                wrong = [at for at, which in enumerate(row) if which > 0 and sorts[at][0]]
                 if wrong:
                     values = [choice[which] for choice, which in zip(choices, row)]
                     self.assert_raises(sorts[wrong[0]][0], function, values)
@@ -141,15 +162,23 @@ class Values(unittest.TestCase):
         self.assertIs(readers.is_endless(A_ONE_B), False)
         self.assertIs(readers.verdict(A_MANY_B, "a"), True)
         self.assertIs(readers.verdict(A_MANY_B, "b"), False)
+        self.assertIs(copying.is_kept(A_MANY_B, (("b", "a"),)), False)
+        self.assertIs(copying.is_kept(A_MANY_B, (("b", ""),)), True)
+        self.assertIs(copying.are_orders_alike(A_MANY_B, (), ()), True)
+        self.assertIs(copying.are_orders_alike(A_MANY_B, (("a", "b"),), (("bb", ""),)), False)
 
     def test_equal_calls_have_equal_answers(self):
         calls = ((texts.deeds, ("ab", KINDS[1], "aba")), (texts.copies, ("ab", KINDS[1], "aba")),
                  (readers.least, (A_ONE_B,)), (readers.both, (A_MANY_B, A_ONE_B)),
                  (readers.parting, (A_MANY_B, A_ONE_B)), (readers.listed, (ALL_YES, 3)),
                  (books.reader_of, ("ab", "(a | ab)* - b")), (printing.printed, ("letters ab; book B = (a)(b);",)),
-                 (reading.check, ("letters ab; book B = (a)(b);",)))
+                 (reading.check, ("letters ab; book B = (a)(b);",)),
+                 (copying.comes, (A_ONE_B, KINDS[1])), (copying.comes_by, (A_ONE_B, KINDS[1], 4)),
+                 (ways.way, ("ab", KINDS[1], "abaa", "bb")), (ways.origin, (A_MANY_B, KINDS[1], "bb")),
+                 (standing.turned, (A_MANY_B, KINDS[1])), (standing.borne, (A_MANY_B,)),
+                 (standing.paper, (A_MANY_B, (("bb", "b"),))))
         for function, values in calls:
-            self.assertEqual(function(*values), function(*values))
+            self.assertEqual(function(*values), function(*copy.deepcopy(values)))
 
     def test_texts_ascend_by_length_first(self):
         found = texts.copies("ab", (("b", ""), ("", "a")), "ba")
