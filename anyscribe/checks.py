@@ -1,12 +1,14 @@
 """What values are letters, texts, kinds and numbers, and the errors for those that are not."""
 
-from anyscribe.errors import BadKinds, BadLetters, BadNumber, BadText
+from anyscribe.errors import BadKinds, BadLetters, BadMender, BadNumber, BadText, BadTexts
 
 MOST_LETTERS = 4
 LONGEST_TEXT = 40
 LONGEST_LEFT = 3
 LONGEST_RIGHT = 1
 MOST_KINDS = 12
+MOST_TEXTS = 20
+LONGEST_OF_TEXTS = 8
 
 
 def is_integer(value):
@@ -68,6 +70,21 @@ def check_kinds(letters, kinds):
     """Raise BadKinds for what is no lot of kinds."""
     if not is_lot(letters, kinds):
         raise BadKinds()
+
+
+def check_mender(letters, mender):
+    """Raise BadKinds for what is no lot of kinds, BadMender for one with an l that is not longer than its r."""
+    check_kinds(letters, mender)
+    if any([len(left) <= len(right) for left, right in mender]):
+        raise BadMender()
+
+
+def check_texts(letters, texts):
+    """Raise BadTexts for what is no tuple of at most 20 texts of at most 8 of the letters."""
+    if not isinstance(texts, tuple) or len(texts) > MOST_TEXTS:
+        raise BadTexts()
+    if not all([is_text_within(letters, text, LONGEST_OF_TEXTS) for text in texts]):
+        raise BadTexts()
 
 
 def check_number(number, most):

@@ -3,7 +3,8 @@
 from anyscribe.checks import check_kinds, check_number, is_lot
 from anyscribe.counts import Counts
 from anyscribe.errors import BadLots, TooMany
-from anyscribe.loose import loose_reader, spread, tight
+from anyscribe.loose import included_lots, loose_reader, spread, tight, wide_reader
+from anyscribe.lots import Follower
 from anyscribe.readers import check_reader, least_of
 
 MOST_LOTS_OF_KINDS = 4
@@ -20,57 +21,56 @@ def check_lots(letters, lots):
 
 def comes_of(reader, kinds):
     """The least reader of what comes of the texts of a reader by any number of deeds."""
-    return tight(spread(loose_reader(least_of(reader)), kinds))
+    return tight(spread(wide_reader(least_of(reader)), kinds))
 
 
 def tightened(machine):
     """A machine that says the same: that of the least reader, if this hasn't too many stands."""
     try:
-        return loose_reader(tight(machine))
+        return wide_reader(tight(machine))
     except TooMany:
         return machine
 
 
 def comes_in_turn(reader, lots):
     """The least reader of what comes of the texts of a reader by the deeds of one lot behind another."""
-    machine = loose_reader(least_of(reader))
+    machine = wide_reader(least_of(reader))
     for kinds in lots:
         # Only what comes at the end must be a reader; on the way a machine will do.
         machine = spread(tightened(machine), kinds)
     return tight(machine)
 
 
-def stacked(table, stand, most, many):
-    """The lot of all pairs (to, deeds) that lie behind the stand by a table, deeds from 0 to the most; stands are many.
+def stacked_rows(table, most, free):
+    """For each pair (stand, deeds) the lot of the pairs that lie behind it by a table; deeds go from 0 to the most.
 
-    The pair (to, deeds) has the number to + deeds * many. Whatever so many deeds lead to, more do as well.
+    The pair has the number stand + deeds * many. Whatever so many deeds lead to, more do as well; and with each stand
+    come those that are free behind it.
     """
-    found = 0
-    known = 0
-    for deeds in range(most + 1):
-        known |= table.lot(deeds, stand)
-        found |= known << (deeds * many)
-    return found
-
-
-def stacked_rows(table, most, many):
-    """For each pair (stand, deeds) the lot of the pairs that lie behind it by a table."""
+    many = len(free)
+    follower = Follower(free)
+    behind = []
+    for stand in range(many):
+        lot, known = 0, 0
+        for deeds in range(most + 1):
+            known |= follower.behind(table.lot(deeds, stand))
+            lot |= known << (deeds * many)
+        behind.append(lot)
     full = (1 << (many * (most + 1))) - 1
-    behind = [stacked(table, stand, most, many) for stand in range(many)]
-    return [(lot << (deeds * many)) & full for deeds in range(most + 1) for lot in behind]
+    return [(each << (ahead * many)) & full for ahead in range(most + 1) for each in behind]
 
 
 def counting_machine(reader, kinds, most):
-    """The loose machine of what comes of the texts of a reader by at most so many deeds."""
-    machine = loose_reader(least_of(reader))
+    """The loose machine of what comes of the texts of a least reader by at most so many deeds."""
+    machine = loose_reader(reader)
     counts = Counts(machine, kinds, "")
     for _ in range(most + 1):
         counts.enter_next()
-    letters, _, free, yes = machine
-    many = len(free)
-    rows = [stacked_rows(counts.letters[letter], most, many) for letter in letters]
-    every = sum([yes << (deeds * many) for deeds in range(most + 1)])
-    return (letters, rows, stacked_rows(counts.texts[""], most, many), every)
+    letters, _, _, yes = machine
+    free = included_lots(reader)
+    rows = [stacked_rows(counts.letters[letter], most, free) for letter in letters]
+    every = sum([yes << (deeds * len(free)) for deeds in range(most + 1)])
+    return (letters, rows, stacked_rows(counts.texts[""], most, free), every)
 
 
 def comes(reader, kinds):
@@ -92,7 +92,7 @@ def comes_by(reader, kinds, many):
     check_reader(reader)
     check_kinds(reader[0], kinds)
     check_number(many, MOST_COUNTED)
-    return tight(counting_machine(reader, kinds, many))
+    return tight(counting_machine(least_of(reader), kinds, many))
 
 
 def is_kept(reader, kinds):

@@ -6,7 +6,8 @@ that say yes. It begins at the stand 0, and says yes to a text if some way of re
 Whatever the rows lead to, they lead as well to what is free behind it.
 """
 
-from anyscribe.lots import Follower, least_by_lots, lot_where, steps_of
+from anyscribe.lots import Follower, is_hopeless, least_by_lots, lot_where, steps_of
+from anyscribe.machines import sources_of
 
 
 def loose_reader(reader):
@@ -15,6 +16,49 @@ def loose_reader(reader):
     steps = steps_of(reader, 0, 0)
     rows = [list(row) for row in zip(*steps)]
     return (letters, rows, [1 << stand for stand in range(len(yes))], lot_where(yes))
+
+
+def parted_one_way(reader):
+    """A dict of the pairs (one, other) of stands such that some text leads from the one to yes, from the other not."""
+    _, rows, yes = reader
+    stands = range(len(rows))
+    sources = sources_of(rows)
+    waiting = [(stand, place) for stand in stands for place in stands if yes[stand] and not yes[place]]
+    found = {pair: True for pair in waiting}
+    while waiting:
+        one, other = waiting.pop()
+        for leading in sources:
+            for pair in [(stand, place) for stand in leading[one] for place in leading[other]]:
+                if pair not in found:
+                    found[pair] = True
+                    waiting.append(pair)
+    return found
+
+
+def included_lots(reader):
+    """For each stand of a least reader the lot of itself and of those that lead to yes by no other texts than it does.
+
+    Stands that lead to no yes at all are left out, as lots with them would say nothing more.
+    """
+    parted = parted_one_way(reader)
+    lots = []
+    for other in range(len(reader[1])):
+        lot = 1 << other
+        for one in range(len(reader[1])):
+            if one != other and (one, other) not in parted and not is_hopeless(reader, one):
+                lot += 1 << one
+        lots.append(lot)
+    return lots
+
+
+def wide_reader(reader):
+    """The loose machine of a least reader in which each stand leads without a letter to those that it includes.
+
+    It says no more than without them, but unlike lots that say the same come far less often.
+    """
+    letters, rows, _, yes = loose_reader(reader)
+    free = included_lots(reader)
+    return (letters, [rows_through(row, free) for row in rows], free, yes)
 
 
 def loose_line(letters, text):

@@ -3,7 +3,7 @@
 from anyscribe.checks import check_kinds, is_integer, is_kind, is_text
 from anyscribe.machines import explored, text_to
 from anyscribe.readers import check_reader, least_of, stand_behind, stand_from
-from anyscribe.texts import deeds_on, is_deed_on, text_behind, text_order
+from anyscribe.texts import deeds_on, is_deed_on, text_behind, text_order, texts_within
 
 LONGEST_BORNE = 2
 BEARS = "bears"
@@ -131,16 +131,6 @@ def shows_turning(reader, kinds, text, deed):
     return is_text(reader[0], text) and is_deed_on(kinds, text, deed) and is_turned(reader, text, deed)
 
 
-def sides_of(letters, longest):
-    """All texts of at most so many letters, ascending."""
-    texts = [""]
-    last = [""]
-    for _ in range(longest):
-        last = [text + letter for text in last for letter in letters]
-        texts.extend(last)
-    return texts
-
-
 def check_reader_and_kinds(reader, kinds):
     """Raise the errors of the parameters that most functions of readers and kinds begin with."""
     check_reader(reader)
@@ -165,7 +155,7 @@ def borne(reader):
     check_reader(reader)
     small = least_of(reader)
     letters = reader[0]
-    sides = sides_of(letters, LONGEST_BORNE)
+    sides = texts_within(letters, LONGEST_BORNE)
     kinds = [(left, right) for left in sides for right in sides if is_kind(letters, (left, right))]
     return tuple([kind for kind in kinds if is_borne(small, kind)])
 

@@ -9,6 +9,16 @@ def text_order(text):
     return (len(text), text)
 
 
+def texts_within(letters, longest):
+    """The list of all texts of at most so many letters, ascending."""
+    texts = [""]
+    last = [""]
+    for _ in range(longest):
+        last = [text + letter for text in last for letter in letters]
+        texts.extend(last)
+    return texts
+
+
 def kind_order(kind):
     """The key by which kinds are ordered: by l, then by r."""
     left, right = kind

@@ -10,8 +10,8 @@ from anyscribe.readers import count, is_reader, least, less, listed
 from anyscribe.ways import origin
 from tests.scribes import (ancestors, are_one, descendants, led, plain_comes, plain_copy, plain_deeds, random_kinds,
                            texts_said)
-from tests.support import (ANY, ascending, fewest_stands, is_numbered_as_come_to, line_of, random_reader, random_readers,
-                           renumbered, round_of, said, texts_of)
+from tests.support import (ANY, ascending, fewest_stands, is_numbered_as_come_to, line_of, random_reader,
+                           random_readers, renumbered, round_of, said, texts_of)
 
 NO_TEXT = ("ab", ((0, 0),), (False,))
 EVERY_TEXT = ("ab", ((0, 0),), (True,))

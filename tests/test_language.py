@@ -36,6 +36,10 @@ INTERFACE = {
     "copying": "comes comes_in_order comes_by is_kept are_orders_alike",
     "ways": "fewest way origin leads",
     "standing": "bears turned borne paper judged",
+    "parting": "are_apart meeting teller most_kinds can_meet greatest_lot",
+    "menders": "mended mending is_one_way overlap failing brings_back",
+    "running": "run",
+    "desks": "Desk desk_of",
     "reading": "check",
 }
 

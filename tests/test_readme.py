@@ -16,7 +16,7 @@ class Readme(unittest.TestCase):
         runner = doctest.DocTestRunner(verbose=False, optionflags=doctest.IGNORE_EXCEPTION_DETAIL)
         found = runner.run(doctest.DocTestParser().get_doctest(text, {}, "README.md", "README.md", 0))
         self.assertEqual(found.failed, 0)
-        self.assertGreater(found.attempted, 25)
+        self.assertGreater(found.attempted, 50)
 
 
 if __name__ == "__main__":

@@ -4,9 +4,10 @@ import copy
 import unittest
 from itertools import product
 
-from anyscribe import books, copying, printing, reading, readers, standing, texts, ways
-from anyscribe.errors import (BadDeed, BadKinds, BadLetters, BadLots, BadNumber, BadReader, BadText, NoWay, ScribeError,
-                              TooLong, TooMany, Unlike)
+from anyscribe import (books, copying, desks, menders, parting, printing, reading, readers, running, standing, texts,
+                       ways)
+from anyscribe.errors import (BadDeed, BadKinds, BadLetters, BadLots, BadMender, BadNumber, BadReader, BadReaders,
+                              BadText, BadTexts, NotApart, NotText, NoWay, ScribeError, TooLong, TooMany, Unlike)
 from tests.support import A_MANY_B, A_ONE_B, ANY, ascending
 
 ALL_YES = ("abcd", ((0, 0, 0, 0),), (True,))
@@ -29,8 +30,27 @@ NUMBER = (BadNumber, 3, (0, 1, 2, 40), (True, False, None, -1, 41, "3", (3,), [3
 LOTS = (BadLots, (KINDS[1], ()), ((), ((), ()), KINDS[1:2]),
         ([], [()], (None,), ((), [("a", "")]), ((), (("c", ""),)), ((),) * 5, KINDS[1]))
 SMALL = (BadNumber, 3, (0, 1, 2, 4), (True, False, None, -1, 5, "1", (1,), [1]))
+FIVE = (BadNumber, 5, (0, 1, 2, 4), (True, False, None, -1, 6, "1", (1,), [1]))
+THREE = (BadNumber, 3, (0, 1, 2), (True, False, None, -1, 4, "1", (1,), [1]))
+MENDER = (BadKinds, (("aa", ""), ("aab", "b")), ((), (("a", ""),)), KINDS[3])
+TEXTS = (BadTexts, ("a", "ba"), ((), ("a", ""), ("a", "a"), ("a" * 8,) * 20),
+         (["a"], "a", ("a" * 9,), ("a",) * 21, ("c",), (None,), (("a",),)))
+DESK_READERS = (BadReaders, (A_MANY_B,), ((), (A_ONE_B, A_MANY_B)), ([A_MANY_B], (None,), (ALL_YES,), A_MANY_B))
 # Any value is right here.
 ROW = (None, ((0, "a", ""),), ANY, ())
+
+
+def new_desk_copy(kinds, deed):
+    return desks.Desk("ab", "aba").copy(kinds, deed)
+
+
+def new_desk_mend(mender):
+    return desks.Desk("ab", "aba").mend(mender)
+
+
+def new_desk_verdicts(told):
+    return desks.Desk("ab", "aba").verdicts(told)
+
 
 FUNCTIONS = (
     (texts.deeds, (LETTERS, KINDS, TEXT)),
@@ -62,9 +82,26 @@ FUNCTIONS = (
     (standing.borne, (READER,)),
     (standing.paper, (READER, KINDS)),
     (standing.judged, (READER, KINDS, ROW)),
+    (parting.are_apart, (READER, OTHER, KINDS)),
+    (parting.meeting, (READER, OTHER, KINDS)),
+    (parting.teller, (READER, OTHER, KINDS)),
+    (parting.most_kinds, (READER, OTHER, KINDS)),
+    (parting.can_meet, (LETTERS, KINDS, TEXT, TEXT)),
+    (parting.greatest_lot, (LETTERS, KINDS, FIVE)),
+    (menders.mended, (LETTERS, MENDER, TEXT)),
+    (menders.mending, (LETTERS, MENDER, TEXT)),
+    (menders.is_one_way, (LETTERS, MENDER)),
+    (menders.overlap, (LETTERS, MENDER)),
+    (menders.failing, (LETTERS, KINDS, THREE, MENDER, TEXTS)),
+    (menders.brings_back, (LETTERS, KINDS, THREE, MENDER, TEXTS)),
+    (desks.Desk, (LETTERS, TEXT)),
+    (new_desk_copy, (KINDS, DEED)),
+    (new_desk_mend, (MENDER,)),
+    (new_desk_verdicts, (DESK_READERS,)),
 )
 # What functions may raise of right values as they are put together here.
-MAY_RAISE = {texts.done: BadDeed, ways.fewest: TooLong, ways.way: (TooLong, NoWay), ways.origin: (TooLong, NoWay)}
+MAY_RAISE = {texts.done: BadDeed, new_desk_copy: BadDeed, parting.teller: NotApart, ways.fewest: TooLong,
+             ways.way: (TooLong, NoWay), ways.origin: (TooLong, NoWay)}
 
 
 def is_same(one, other):
@@ -126,6 +163,9 @@ class WrongValues(unittest.TestCase):
                     self.assert_raises(sorts[wrong[0]][0], function, values)
 
     def test_unlike_stands_behind_both_readers(self):
+        for function in (parting.are_apart, parting.meeting, parting.teller, parting.most_kinds):
+            self.assert_raises(Unlike, function, [A_MANY_B, ALL_YES, None])
+            self.assert_raises(BadReader, function, [ALL_YES, None, None])
         for function in (readers.are_alike, readers.parting, readers.both, readers.either, readers.less):
             self.assert_raises(Unlike, function, [A_MANY_B, ALL_YES])
             self.assert_raises(Unlike, function, [ALL_YES, A_MANY_B])
@@ -140,6 +180,24 @@ class WrongValues(unittest.TestCase):
         self.assert_raises(BadText, texts.done, ["ab", kinds, "a" * 41, (0, "", "a")])
         error = self.assert_raises(TooLong, texts.copies, ["ab", kinds, "a" * 40])
         self.assertEqual(error.most, 40)
+
+    def test_no_mender_stands_where_the_kinds_do(self):
+        bad = (("a", "b"),)
+        for function in (menders.mended, menders.mending):
+            self.assert_raises(BadMender, function, ["ab", bad, None])
+        for function in (menders.is_one_way, menders.overlap):
+            self.assert_raises(BadMender, function, ["ab", bad])
+        for function in (menders.failing, menders.brings_back):
+            self.assert_raises(BadMender, function, ["ab", (), 0, bad, None])
+            self.assert_raises(BadNumber, function, ["ab", (), None, bad, None])
+            self.assert_raises(BadTexts, function, ["ab", (), 0, (), None])
+        self.assert_raises(BadMender, new_desk_mend, [bad])
+
+    def test_texts_to_be_read(self):
+        for function in (running.run, reading.check, printing.printed, desks.desk_of):
+            for value in ANY:
+                if not isinstance(value, str):
+                    self.assert_raises(NotText, function, [value])
 
     def test_too_many_stands_behind_the_number(self):
         error = self.assert_raises(TooMany, readers.listed, [ALL_YES, 40])
@@ -176,7 +234,12 @@ class Values(unittest.TestCase):
                  (copying.comes, (A_ONE_B, KINDS[1])), (copying.comes_by, (A_ONE_B, KINDS[1], 4)),
                  (ways.way, ("ab", KINDS[1], "abaa", "bb")), (ways.origin, (A_MANY_B, KINDS[1], "bb")),
                  (standing.turned, (A_MANY_B, KINDS[1])), (standing.borne, (A_MANY_B,)),
-                 (standing.paper, (A_MANY_B, (("bb", "b"),))))
+                 (standing.paper, (A_MANY_B, (("bb", "b"),))),
+                 (parting.meeting, (A_ONE_B, A_MANY_B, KINDS[1])), (parting.greatest_lot, ("ab", (("ab", "b"),), 4)),
+                 (parting.most_kinds, (A_ONE_B, ("ab", ((0, 1), (1, 1)), (False, True)), KINDS[1])),
+                 (menders.mending, ("ab", MENDER[1], "aabaa")), (menders.overlap, ("ab", MENDER[1])),
+                 (menders.failing, ("ab", KINDS[1], 2, MENDER[1], ("ab", "b"))),
+                 (running.run, ("letters ab; book A = a b*; kinds K = b > _; ask comes A K a; ask fewest b _ K;",)))
         for function, values in calls:
             self.assertEqual(function(*values), function(*copy.deepcopy(values)))
 
