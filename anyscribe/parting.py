@@ -37,13 +37,12 @@ def have_common_text(one, other):
 
 
 def lots_apart(letters, kinds, texts):
-    """For each of the texts the lot of the places of those that cannot meet it."""
+    """For each of the texts the lot of the places of those behind it that cannot meet it."""
     readers = [come_of_text(letters, kinds, text) for text in texts]
     apart = [0 for _ in texts]
     for at, one in enumerate(readers):
         for place in range(at):
             if not have_common_text(one, readers[place]):
-                apart[at] |= 1 << place
                 apart[place] |= 1 << at
     return apart
 

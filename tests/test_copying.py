@@ -158,6 +158,19 @@ class Comes(Copying):
         self.assertEqual(comes(line_of("ab", 200, (198,)), (("a", "b"),)), line_of("ab", 200, (198,)))
         self.assertEqual(comes(round_of("ab", 200), (("a", "b"),)), round_of("ab", 200))
 
+    def test_few_stands_of_many_lots(self):
+        # Some twenty thousand lots of stands and more say the same as a few others.
+        for text, letters, kinds, many in ((".* a . . . . . .", "ab", (("", "a"),), 80),
+                                           ("(aa. | b . . . . | . b . a)*", "ab", (("", "a"),), 37),
+                                           ("(aa. | b . . . . | . b . a)*", "abc", (("aa", "c"),), 79)):
+            reader = meant(text, letters)
+            found = comes(reader, kinds)
+            self.assertEqual(len(found[1]), many)
+            self.assertIs(is_kept(found, kinds), True)
+            self.assertEqual(less(reader, found)[2], (False,))
+            for text in texts_said(found, 8 - 2 * len(letters)):
+                self.assertEqual(led(kinds, *origin(reader, kinds, text))[0], text)
+
     def test_more_than_two_hundred_stands(self):
         self.assertGreater(fewest_stands(plain_comes(WILD, WILD_KINDS)), 200)
         self.assert_too_many(comes, WILD, WILD_KINDS)
